@@ -1,0 +1,1 @@
+"""Zonewalk: machines with watches, and whether a room is come to."""
