@@ -11,8 +11,8 @@ OWN_NAMES = """len range enumerate zip min max sum abs sorted reversed int str b
 isinstance ord repr any all divmod Exception ValueError TypeError KeyError IndexError LookupError ZeroDivisionError
 ArithmeticError OverflowError RuntimeError NotImplementedError AttributeError StopIteration""".split()
 METHODS = """append clear copy count endswith extend find get index insert isalnum isalpha isdigit islower isspace
-isupper items join keys ljust lower lstrip partition pop remove replace reverse rfind rjust rpartition rsplit rstrip setdefault
-split splitlines startswith strip update upper values zfill bit_length""".split()
+isupper items join keys ljust lower lstrip partition pop remove replace reverse rfind rjust rpartition rsplit rstrip
+setdefault split splitlines startswith strip update upper values zfill bit_length""".split()
 SPECIAL_METHODS = ["__init__", "__eq__", "__repr__", "__str__", "__len__"]
 UNUSED_ANYWHERE = "register mro elements open input version_info with_traceback add_note format format_map".split()
 WORDS = """type typing typing_extensions enum Enum IntEnum StrEnum Flag IntFlag Generic Protocol ABC ABCMeta namedtuple
