@@ -1,6 +1,6 @@
 """What several test files share: the words of the document, reckoned in Python's own fractions, and random things.
 
-Nothing here draws on the program but its refusals, so that it can be held against what the program tells.
+Nothing here draws on the program but its refusals, doors and machines, so that it can be held against the rest.
 """
 
 import copy
@@ -9,6 +9,7 @@ import random
 from fractions import Fraction
 
 from zonewalk.errors import WalkError
+from zonewalk.machines import Door, Machine
 
 FORTY = 10 ** 40 - 1
 SIXTY = 10 ** 60 - 1
@@ -189,3 +190,169 @@ def refused(case, error, ask, *things):
         ask(*things)
     case.assertIs(type(taken.exception), error, things)
     return taken.exception
+
+
+def meets_guard(machine, guard, values):
+    names = machine.watches()
+    return all(stands(values[names.index(watch)], word, number) for watch, word, number in guard)
+
+
+def slow_step(machine, room, values, step, alone=True):
+    """The stand behind a step, in Python's own fractions, or None; the stand ahead is a legal one."""
+    wait, number = step
+    values = [value + wait for value in values]
+    if wait < 0 or not meets_guard(machine, machine.stay(room), values):
+        return None
+    if number is None:
+        return (room, values)
+    if number not in range(len(machine.doors())):
+        return None
+    door = machine.doors()[number]
+    if door.start != room or alone and door.sign or not meets_guard(machine, door.asks(), values):
+        return None
+    values = [Fraction(0) if watch in door.sets() else value for watch, value in zip(machine.watches(), values)]
+    return (door.end, values) if meets_guard(machine, machine.stay(door.end), values) else None
+
+
+def slow_stands(machine, steps, alone=True):
+    """The stands of a run, or the number of the first step that cannot be made."""
+    told = [(machine.rooms()[0], [Fraction(0) for watch in machine.watches()])]
+    if not meets_guard(machine, machine.stay(told[0][0]), told[0][1]):
+        return 0
+    for number, step in enumerate(steps):
+        behind = slow_step(machine, *told[-1], step, alone)
+        if behind is None:
+            return number
+        told.append(behind)
+    return told
+
+
+def as_run(steps):
+    return [(pair(wait), door) for wait, door in steps]
+
+
+def as_steps(run):
+    return [(Fraction(*wait), door) for wait, door in run]
+
+
+def random_guard(source, watches, count=2, most=4, words=WORDS):
+    if not watches:
+        return []
+    return [(source.choice(watches), source.choice(words), source.randint(0, most))
+            for turn in range(source.randint(0, count))]
+
+
+def random_machine(source, watches, rooms, doors, most=4, signs=("",)):
+    """A machine of small numbers: stays and guards of a look or two, so that about half of it can be gone through."""
+    watches = list(watches)
+    names = list(rooms)
+
+    def door():
+        noughts = [watch for watch in watches if source.random() < 0.4]
+        source.shuffle(noughts)
+        guard = random_guard(source, watches, 2, most)
+        return Door(source.choice(names), source.choice(names), guard, noughts, source.choice(signs))
+    stays = [random_guard(source, watches, 1, most, ["<", "<="]) for name in names]
+    # A stay that nothing meets would leave little of a small machine.
+    stays = [[look for look in stay if look[1:] != ("<", 0)] for stay in stays]
+    return Machine(watches, list(zip(names, stays)), [door() for turn in range(doors)])
+
+
+def random_walk(source, machine, length, bottom=3, alone=True):
+    """A run found by trying steps at random, as steps in Python's own fractions; [] where nothing was found."""
+    steps = []
+    for turn in range(length):
+        for attempt in range(12):
+            wait = Fraction(source.randint(0, 3 * bottom), source.randint(1, bottom))
+            door = source.choice([None, *range(len(machine.doors())), *range(len(machine.doors()))])
+            if isinstance(slow_stands(machine, [*steps, (wait, door)], alone), list):
+                steps.append((wait, door))
+                break
+    return steps
+
+
+def slow_met(machine, zone, guard):
+    rows = [list(row) for row in zone]
+    for watch, word, number in guard:
+        place = machine.watches().index(watch) + 1
+        if word in ("<", "<=", "="):
+            rows[place][0] = lesser(rows[place][0], below(number) if word == "<" else at_most(number))
+        if word in (">", ">=", "="):
+            rows[0][place] = lesser(rows[0][place], below(-number) if word == ">" else at_most(-number))
+    return slowly_narrowed(rows)
+
+
+def slow_waited(zone):
+    return slowly_narrowed([[None if i > 0 and j == 0 else bound for j, bound in enumerate(row)]
+                            for i, row in enumerate(zone)])
+
+
+def slow_put_back(machine, zone, noughts):
+    at = [0, *[0 if watch in noughts else place for place, watch in enumerate(machine.watches(), start=1)]]
+    return [[zone[i][j] for j in at] for i in at]
+
+
+def slow_folded(zone, mosts):
+    all_mosts = [0, *mosts]
+    rows = [list(row) for row in zone]
+    for i in range(len(zone)):
+        for j in range(len(zone)):
+            if i == j or zone[i][j] is None:
+                continue
+            number = zone[i][j] // 2
+            if all_mosts[i] is not None and number > all_mosts[i]:
+                rows[i][j] = None
+            elif all_mosts[j] is not None and number < -all_mosts[j]:
+                rows[i][j] = below(-all_mosts[j])
+    return slowly_narrowed(rows)
+
+
+def slow_freed(zone, place):
+    return [[None if i == place != j else bound for j, bound in enumerate(row)] for i, row in enumerate(zone)]
+
+
+def is_within(one, other):
+    return all(b is None or a is not None and a <= b for row, more in zip(one, other) for a, b in zip(row, more))
+
+
+def slow_greatest(machine, goal):
+    guards = [machine.stay(room) for room in machine.rooms()] + [door.asks() for door in machine.doors()]
+    looks = [look for guard in guards + [guard for room, guard in goal] for look in guard]
+    return [max([0, *[number for name, word, number in looks if name == watch]]) for watch in machine.watches()]
+
+
+def slow_search(machine, goal, free=None, ends=True):
+    """The nodes of the search and whether the last one hits, without a most; goes by the words of the document."""
+    mosts = slow_greatest(machine, goal)
+    if free is not None:
+        mosts[machine.watches().index(free)] = None
+
+    def arrived(room, zone):
+        for move in (lambda zone: slow_met(machine, zone, machine.stay(room)), slow_waited,
+                     lambda zone: slow_met(machine, zone, machine.stay(room)), lambda zone: slow_folded(zone, mosts)):
+            if zone is not None:
+                zone = move(zone)
+        if zone is not None and free is not None:
+            zone = slow_freed(zone, machine.watches().index(free) + 1)
+        return zone
+
+    def hits(room, zone):
+        return any(room == marked and slow_met(machine, zone, guard) is not None for marked, guard in goal)
+    first = machine.rooms()[0]
+    zone = arrived(first, [[1] * (len(mosts) + 1)] * (len(mosts) + 1))
+    nodes = [] if zone is None else [(first, zone, None, None)]
+    if nodes and ends and hits(*nodes[0][:2]):
+        return nodes, True
+    for at, (room, zone, *rest) in enumerate(nodes):
+        for number, door in enumerate(machine.doors()):
+            if door.start != room or door.sign:
+                continue
+            after = slow_met(machine, zone, door.asks())
+            if after is not None:
+                after = arrived(door.end, slow_put_back(machine, after, door.sets()))
+            if after is None or any(door.end == other and is_within(after, more) for other, more, *ahead in nodes):
+                continue
+            nodes.append((door.end, after, at, number))
+            if ends and hits(door.end, after):
+                return nodes, True
+    return nodes, False

@@ -5,7 +5,7 @@ import unittest
 from fractions import Fraction
 
 from helpers import (FORTY, WORDS, at_most, below, grid, kept, lies, meets_looks, narrow_zones, pair, pairs,
-                     random_values, slowly_narrowed)
+                     random_values, slow_folded, slowly_narrowed)
 from zonewalk.moves import folded, freed, holds, met, put_back, waited
 from zonewalk.zones import everywhere, narrowest, nought
 
@@ -192,21 +192,6 @@ class FreedTest(unittest.TestCase):
                     self.assertEqual(slowly_narrowed(freed(zone, place)), freed(zone, place))
 
 
-def folded_as_told(zone, mosts):
-    all_mosts = [0, *mosts]
-    rows = [list(row) for row in zone]
-    for i in range(len(zone)):
-        for j in range(len(zone)):
-            if i == j or zone[i][j] is None:
-                continue
-            number = zone[i][j] // 2
-            if all_mosts[i] is not None and number > all_mosts[i]:
-                rows[i][j] = None
-            elif all_mosts[j] is not None and number < -all_mosts[j]:
-                rows[i][j] = below(-all_mosts[j])
-    return slowly_narrowed(rows)
-
-
 class FoldedTest(unittest.TestCase):
     def test_as_told(self):
         source = random.Random(5)
@@ -215,7 +200,7 @@ class FoldedTest(unittest.TestCase):
                 for turn in range(6):
                     mosts = [source.choice([None, 0, 1, 2, 3, 5, FORTY // 2]) for place in range(many)]
                     told = folded(zone, mosts)
-                    self.assertEqual(told, folded_as_told(zone, mosts))
+                    self.assertEqual(told, slow_folded(zone, mosts))
                     self.assertEqual(narrowest(told), told)
 
     def test_all_values_of_the_zone_lie_in_it(self):
