@@ -16,6 +16,15 @@ SIXTY = 10 ** 60 - 1
 WORDS = ["<", "<=", ">", ">=", "="]
 # One of each kind that stands for no list, tuple, text, number or door.
 ODD_THINGS = [None, True, False, "", "x", "x<3", 0, 3, -1, [], [3], ["x"], [None], (), (3,), ("x",), {}, {"x": 3}, 0.5]
+# What is no look at x: one thing wrong at a time.
+BAD_LOOKS = [
+    None, True, 3, "x<3", [], ["x", "<", 3], (), ("x",), ("x", "<"), ("x", "<", 3, 3), {"x": 3},
+    ("z", "<", 3), ("", "<", 3), (None, "<", 3), (1, "<", 3), (["x"], "<", 3), (("x",), "<", 3), (True, "<", 3),
+    ("x", "==", 3), ("x", "", 3), ("x", "=<", 3), ("x", "!=", 3), ("x", None, 3), ("x", 3, 3), ("x", ["<"], 3),
+    ("x", ("<",), 3), ("x", " <", 3), ("x", True, 3),
+    ("x", "<", -1), ("x", "<", True), ("x", "<", False), ("x", "<", None), ("x", "<", "3"), ("x", "<", [3]),
+    ("x", "<", (3, 1)), ("x", "<", 3.0),
+]
 
 
 def at_most(number):
@@ -356,3 +365,77 @@ def slow_search(machine, goal, free=None, ends=True):
             if ends and hits(door.end, after):
                 return nodes, True
     return nodes, False
+
+
+def with_slow_long(machine):
+    rooms = [(room, machine.stay(room)) for room in machine.rooms()]
+    return Machine([*machine.watches(), "/"], rooms, machine.doors())
+
+
+def slow_road_end(machine, road, guard):
+    """The zone of the values at the end of a road that meet the guard, gone through without any folding, or None."""
+    room = machine.rooms()[0]
+    size = len(machine.watches()) + 1
+    zone = slow_met(machine, [[1] * size] * size, machine.stay(room))
+    for number in [*road, None]:
+        if zone is not None:
+            zone = slow_met(machine, slow_waited(zone), machine.stay(room))
+        if number is not None and zone is not None:
+            door = machine.doors()[number]
+            zone = slow_met(machine, zone, door.asks())
+            room = door.end
+            if zone is not None:
+                zone = slow_met(machine, slow_put_back(machine, zone, door.sets()), machine.stay(room))
+    return None if zone is None else slow_met(machine, zone, guard)
+
+
+def slow_soonest(machine, road, guard):
+    """The soonest end of a road, by a watch that is never set to 0; None where the road is closed."""
+    zone = slow_road_end(with_slow_long(machine), road, guard)
+    if zone is None:
+        return None
+    return (-(zone[0][-1] // 2), zone[0][-1] % 2 == 1)
+
+
+def random_road(source, machine, length):
+    road = []
+    room = machine.rooms()[0]
+    for turn in range(length):
+        numbers = [number for number, door in enumerate(machine.doors()) if door.start == room and not door.sign]
+        if not numbers:
+            break
+        road.append(source.choice(numbers))
+        room = machine.doors()[road[-1]].end
+    return road
+
+
+def slow_lets_by(machine, goal, paper):
+    """Whether a paper is let by, by the words of the document."""
+    told = [(room, slowly_narrowed(zone)) for room, zone in paper]
+    told = [(room, zone) for room, zone in told if zone is not None]
+
+    def covered(room, zone):
+        return zone is None or any(room == other and is_within(zone, more) for other, more in told)
+    first = machine.rooms()[0]
+    noughts = [Fraction(0) for watch in machine.watches()]
+    if meets_guard(machine, machine.stay(first), noughts):
+        if not any(room == first and lies(zone, noughts) for room, zone in told):
+            return False
+    for room, zone in told:
+        if not covered(room, slow_met(machine, slow_waited(zone), machine.stay(room))):
+            return False
+        for door in machine.doors():
+            if door.start == room and not door.sign:
+                after = slow_met(machine, zone, door.asks())
+                if after is not None:
+                    after = slow_put_back(machine, after, door.sets())
+                    if not covered(door.end, slow_met(machine, after, machine.stay(door.end))):
+                        return False
+        if any(room == marked and slow_met(machine, zone, guard) is not None for marked, guard in goal):
+            return False
+    return True
+
+
+def told_by(machine):
+    doors = [(door.start, door.end, door.asks(), door.sets(), door.sign) for door in machine.doors()]
+    return machine.watches(), [(room, machine.stay(room)) for room in machine.rooms()], doors

@@ -3,9 +3,8 @@ import random
 import unittest
 from fractions import Fraction
 
-from helpers import (FORTY, ODD_THINGS, kept, meets_guard, pairs, random_guard, random_machine, random_values, refused,
-                     slow_greatest)
-from test_machines import BAD_LOOKS
+from helpers import (BAD_LOOKS, FORTY, ODD_THINGS, kept, meets_guard, pairs, random_guard, random_machine,
+                     random_values, refused, slow_greatest)
 from zonewalk.errors import NoMark
 from zonewalk.goals import greatest, meets
 from zonewalk.machines import Door, Machine

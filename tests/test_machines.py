@@ -3,7 +3,7 @@ import inspect
 import itertools
 import unittest
 
-from helpers import FORTY, ODD_THINGS, SIXTY, WORDS, kept, refused, spoil
+from helpers import BAD_LOOKS, FORTY, ODD_THINGS, SIXTY, WORDS, kept, refused, spoil
 from zonewalk.errors import BadMachine, NoMark, TooMany
 from zonewalk.machines import Door, Machine, placed
 
@@ -12,15 +12,6 @@ ROOMS = [("idle", [("x", "<=", 5)]), ("busy", [])]
 GUARD = [("x", ">=", 2), ("y", "<", 4)]
 BAD_NAMES = ["", "X", "x1", "abcdefghi", "x y", " x", "x!", "-", "x/", "//", "x\n", "`", "{", None, 3, True, ["x"],
              ("x",), {}]
-# What is no look at x: one thing wrong at a time.
-BAD_LOOKS = [
-    None, True, 3, "x<3", "x<3"[:3], [], ["x", "<", 3], (), ("x",), ("x", "<"), ("x", "<", 3, 3), {"x": 3},
-    ("z", "<", 3), ("", "<", 3), (None, "<", 3), (1, "<", 3), (["x"], "<", 3), (("x",), "<", 3), (True, "<", 3),
-    ("x", "==", 3), ("x", "", 3), ("x", "=<", 3), ("x", "!=", 3), ("x", None, 3), ("x", 3, 3), ("x", ["<"], 3),
-    ("x", ("<",), 3), ("x", " <", 3), ("x", True, 3),
-    ("x", "<", -1), ("x", "<", True), ("x", "<", False), ("x", "<", None), ("x", "<", "3"), ("x", "<", [3]),
-    ("x", "<", (3, 1)), ("x", "<", 3.0),
-]
 
 
 def door(start="idle", end="busy", guard=GUARD, noughts=["x"], sign="go!"):

@@ -3,7 +3,7 @@ import random
 import unittest
 from fractions import Fraction
 
-from helpers import (FORTY, SIXTY, as_run, kept, pair, pairs, random_machine, random_walk, refused, slow_stands, spoil)
+from helpers import FORTY, SIXTY, as_run, kept, pair, pairs, random_machine, random_walk, refused, slow_stands, spoil
 from zonewalk.errors import NoRun
 from zonewalk.fractions import is_fraction
 from zonewalk.machines import Door, Machine

@@ -1,0 +1,31 @@
+"""Machines made of others: with a long watch, and with a room cut off."""
+
+from zonewalk.errors import BadMachine, NoMark
+from zonewalk.machines import MOST_WATCHES, Door, Machine
+
+LONG = "/"
+CUT = "cut!"
+
+
+def with_long(machine):
+    watches = machine.watches()
+    if LONG in watches or len(watches) >= MOST_WATCHES:
+        raise BadMachine("there is no place for a long watch")
+    return Machine(watches + [LONG], rooms_with_stays(machine), machine.doors())
+
+
+def rooms_with_stays(machine):
+    return [(room, machine.stay(room)) for room in machine.rooms()]
+
+
+def cut_off(machine, room):
+    if room not in machine.rooms():
+        raise NoMark("only a room of the machine is cut off")
+    doors = [cut_door(door, room) for door in machine.doors()]
+    return Machine(machine.watches(), rooms_with_stays(machine), doors)
+
+
+def cut_door(door, room):
+    if door.start != room and door.end != room:
+        return door
+    return Door(door.start, door.end, door.asks(), door.sets(), CUT)
