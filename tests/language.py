@@ -1,6 +1,6 @@
 """Tells where a file of the package leaves LANGUAGE.md, as far as a look at its syntax can.
 
-Not all of L1 to L28 is seen here: what a value is at run time (L11, L19, L23, L24) is left to the reader.
+Not all of L1 to L28 is seen here: what a value is at run time (L11, L15, L19, L23) is left to the reader.
 """
 
 import ast
@@ -18,6 +18,17 @@ UNUSED_ANYWHERE = "register mro elements open input version_info with_traceback 
 WORDS = """type typing typing_extensions enum Enum IntEnum StrEnum Flag IntFlag Generic Protocol ABC ABCMeta namedtuple
 NamedTuple TypedDict TYPE_CHECKING abstractmethod""".split()
 WORD_PARTS = ["dataclass", "overload", "contextmanager"]
+NOT_AS_NAMES = """attrgetter breakpoint builtins compile copyright credits delattr dir eval exec exit gc getattr globals
+hasattr help id importlib license locals methodcaller os quit setattr super type vars sys __name__""".split()
+KEYWORDS = {"sorted": ["key", "reverse"], "min": ["key", "default"], "max": ["key", "default"], "sum": ["start"],
+            "enumerate": ["start"], "zip": ["strict"]}
+WALKED = ["zip", "enumerate", "reversed", "range"]
+WALKED_METHODS = ["items", "keys", "values"]
+WALKERS = "list tuple dict sorted sum any all enumerate zip".split()
+CLASSES_ASKED = ["int", "str", "bool", "list", "tuple", "dict"]
+OWN_METHODS_TOO = ["add", "discard", *METHODS]
+OWN_VALUES_TOO = "count index title find get join lower upper split strip copy add".split()
+PYTHONS_OWN = {"args"} | {name for kind in (str, int, list, dict, set, bytes, tuple) for name in dir(kind)}
 BAD_FILES = "test tests testing site conftest sitecustomize usercustomize".split()
 
 STATEMENTS = (ast.FunctionDef, ast.ClassDef, ast.Return, ast.Assign, ast.AugAssign, ast.For, ast.While, ast.If,
@@ -38,7 +49,7 @@ def check(rule):
 def faults(source, own_methods=()):
     """The faults of one file's text, each as (rule, line); own_methods are the names of the package's own methods."""
     tree = ast.parse(source)
-    found = list(row_faults(source)) + top_faults(tree) + name_faults(tree)
+    found = list(row_faults(source)) + top_faults(tree) + name_faults(tree) + placed_faults(tree)
     for node in ast.walk(tree):
         for rule, function in CHECKS:
             if function(node):
@@ -134,6 +145,59 @@ def is_method_call(node):
     return isinstance(node, ast.Call) and isinstance(node.func, ast.Attribute)
 
 
+def placed_faults(tree):
+    """What is out of place: right by itself, but not where it stands."""
+    found = []
+    parents = {child: node for node in ast.walk(tree) for child in ast.iter_child_nodes(node)}
+    for node, parent in parents.items():
+        if is_walked(node) and not is_walked_at_once(node, parent):
+            found.append(("L23", node.lineno))
+        if is_call_of(node, ["set", "frozenset"]) and not is_set_in_place(node, parent, parents):
+            found.append(("L24", node.lineno))
+        if isinstance(node, ast.Name) and node.id in OWN_NAMES and not is_own_name_in_place(node, parent, parents):
+            found.append(("L22", node.lineno))
+        if isinstance(node, ast.Attribute) and node.attr in METHODS and isinstance(node.ctx, ast.Load):
+            if not (isinstance(parent, ast.Call) and parent.func is node) and node.attr not in OWN_VALUES_TOO:
+                found.append(("L25", node.lineno))
+    return found
+
+
+def is_call_of(node, names):
+    return isinstance(node, ast.Call) and isinstance(node.func, ast.Name) and node.func.id in names
+
+
+def is_walked(node):
+    return is_call_of(node, WALKED) or is_method_call(node) and node.func.attr in WALKED_METHODS
+
+
+def is_walked_at_once(node, parent):
+    if isinstance(parent, (ast.For, ast.comprehension)):
+        return parent.iter is node
+    if is_call_of(parent, WALKERS):
+        return parent.args[0] is node or is_call_of(parent, ["zip"])
+    if is_call_of(parent, ["min", "max"]):
+        return len(parent.args) == 1
+    return is_method_call(parent) and parent.func.attr == "join" and isinstance(parent.func.value, ast.Constant)
+
+
+def is_set_in_place(node, parent, parents):
+    while isinstance(parent, ast.BinOp):
+        parent = parents[parent]
+    return isinstance(parent, ast.Compare) or is_call_of(parent, ["sorted", "len"]) and not parent.keywords
+
+
+def is_own_name_in_place(node, parent, parents):
+    if isinstance(parent, ast.Call) and parent.func is node:
+        return True
+    if isinstance(parent, ast.Tuple):
+        parent = parents[parent]
+    if is_call_of(parent, ["isinstance"]):
+        return node.id in CLASSES_ASKED
+    if isinstance(parent, ast.keyword):
+        return parent.arg == "key"
+    return isinstance(parent, (ast.ClassDef, ast.ExceptHandler, ast.Raise))
+
+
 @check("L6")
 def is_other_statement(node):
     return isinstance(node, ast.stmt) and not isinstance(node, STATEMENTS)
@@ -197,7 +261,26 @@ def is_long_function(node):
 @check("L17")
 def is_unused_name(node):
     names = [getattr(node, field, None) for field in ("id", "attr", "name", "arg")]
-    return any(name in UNUSED_ANYWHERE for name in names)
+    return any(name in UNUSED_ANYWHERE for name in names) or getattr(node, "id", None) in NOT_AS_NAMES
+
+
+@check("L21")
+def is_annotated(node):
+    return getattr(node, "annotation", None) is not None or getattr(node, "returns", None) is not None
+
+
+@check("L22")
+def is_odd_keyword(node):
+    if not isinstance(node, ast.Call) or not isinstance(node.func, ast.Name) or node.func.id not in OWN_NAMES:
+        return False
+    return any(keyword.arg not in KEYWORDS.get(node.func.id, []) for keyword in node.keywords)
+
+
+@check("L28")
+def is_odd_init(node):
+    if not isinstance(node, ast.FunctionDef) or node.name != "__init__":
+        return False
+    return any(isinstance(part, ast.Return) and part.value is not None for part in ast.walk(node))
 
 
 @check("L8")
@@ -233,6 +316,30 @@ def method_names(sources):
     trees = [ast.parse(source) for source in sources]
     classes = [node for tree in trees for node in tree.body if isinstance(node, ast.ClassDef)]
     return [part.name for node in classes for part in node.body if isinstance(part, ast.FunctionDef)]
+
+
+def value_names(sources):
+    """The names under which objects keep values: all that is given as an attribute."""
+    nodes = [node for source in sources for node in ast.walk(ast.parse(source))]
+    return [node.attr for node in nodes if isinstance(node, ast.Attribute) and isinstance(node.ctx, ast.Store)]
+
+
+def clashes(sources):
+    """Names of methods and of values that stand in one another's way, or in the way of Python's own."""
+    methods = [name for name in method_names(sources) if name not in SPECIAL_METHODS]
+    kept = value_names(sources)
+    found = [name for name in methods if name in kept]
+    found += [name for name in methods if name in PYTHONS_OWN and name not in OWN_METHODS_TOO]
+    return sorted(found + [name for name in kept if name in PYTHONS_OWN and name not in OWN_VALUES_TOO])
+
+
+def drawn_elsewhere(sources):
+    """The rows (file, name) that draw a name from another file than the one that defines it."""
+    tops = {name: [found for node in ast.parse(source).body for found in names_at_top(node)]
+            for name, source in sources.items()}
+    rows = [(file, node.module.rpartition(".")[2], alias.name) for file, source in sources.items()
+            for node in ast.parse(source).body if isinstance(node, ast.ImportFrom) for alias in node.names]
+    return [(file, name) for file, drawn, name in rows if name not in tops.get(drawn, [])]
 
 
 def drawn_from(source):

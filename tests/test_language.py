@@ -3,7 +3,7 @@ import re
 import unittest
 
 import zonewalk
-from language import BAD_FILES, WORDS, faults, in_a_ring, method_names
+from language import BAD_FILES, WORDS, clashes, drawn_elsewhere, faults, in_a_ring, method_names
 
 FOLDER = pathlib.Path(zonewalk.__file__).parent
 SOURCES = {path.stem: path.read_text(encoding="utf-8") for path in sorted(FOLDER.glob("*.py"))}
@@ -44,6 +44,17 @@ BROKEN = [
     ("L17", "def f(x):\n    x.open = 1\n"),
     ("L19", "def f(x):\n    try:\n        return x[0]\n    except Exception:\n        return x\n"),
     ("L20", "def f(x, y):\n    return x is y\n"),
+    ("L17", "def f(x):\n    return help(x)\n"),
+    ("L21", "def f(x: int):\n    return x\n"),
+    ("L22", "def f(x):\n    return isinstance(x, set)\n"),
+    ("L22", "def f(x):\n    y = len\n    return y(x)\n"),
+    ("L22", "def f(x):\n    return int(x, base=2)\n"),
+    ("L23", "def f(x):\n    y = zip(x, x)\n    return y\n"),
+    ("L23", "def f(x):\n    return x.items()\n"),
+    ("L23", "def f(x):\n    return len(range(x))\n"),
+    ("L24", "def f(x):\n    y = set(x)\n    return y\n"),
+    ("L24", "def f(x):\n    return [y for y in set(x)]\n"),
+    ("L25", "def f(x):\n    return x.append\n"),
     ("L25", "def f(x):\n    x.sort()\n"),
     ("L27", "def f(x):\n    return 2 ** x\n"),
     ("L27", "A = 'half: 50%'\n"),
@@ -67,12 +78,29 @@ class LanguageTest(unittest.TestCase):
     def test_no_files_draw_from_one_another(self):
         self.assertEqual(in_a_ring(SOURCES), [])
 
+    def test_names_are_drawn_from_where_they_are_defined(self):
+        self.assertEqual(drawn_elsewhere(SOURCES), [])
+
+    def test_no_name_is_a_method_here_and_a_value_there(self):
+        self.assertEqual(clashes(SOURCES.values()), [])
+
 
 class CheckerTest(unittest.TestCase):
     def test_each_broken_rule_is_seen(self):
         for rule, source in BROKEN:
             with self.subTest(rule=rule, source=source):
                 self.assertIn(rule, [found for found, line in faults(source)])
+
+    def test_clashes_are_seen(self):
+        one = "class A:\n    def f(self):\n        return 1\n"
+        for other, name in (("f", "f"), ("items", "items"), ("args", "args"), ("step", None)):
+            keeps = "class B:\n    def __init__(self):\n        self." + other + " = 1\n"
+            self.assertEqual(clashes([one, keeps]), [] if name is None else [name])
+        self.assertEqual(clashes(["class A:\n    def isdecimal(self):\n        return 1\n"]), ["isdecimal"])
+
+    def test_a_name_drawn_from_elsewhere_is_seen(self):
+        files = {"a": "A = 1\n", "b": "from zonewalk.a import A\n", "c": "from zonewalk.b import A\n"}
+        self.assertEqual(drawn_elsewhere(files), [("c", "A")])
 
     def test_a_ring_is_seen(self):
         drawn = {"a": "b", "b": "c", "c": "b"}

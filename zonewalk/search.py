@@ -44,8 +44,12 @@ class Walk:
                 told.append((end, zone, at, number))
         return told
 
+    def hit_zones(self, node):
+        zones = [met(node[1], looks) for room, looks in self.marks if room == node[0]]
+        return [zone for zone in zones if zone is not None]
+
     def hits(self, node):
-        return any([room == node[0] and met(node[1], looks) is not None for room, looks in self.marks])
+        return len(self.hit_zones(node)) > 0
 
 
 def listed(walk, most, ends):
