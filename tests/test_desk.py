@@ -70,6 +70,13 @@ class AnswerTest(unittest.TestCase):
         self.assertEqual(self.desk.say("walk 5/2 0; 1/3 -"), "busy/work 1/3 1/3")
         self.assertEqual(desk_of("watches\nroom a").say("walk 3 -"), "a")
 
+    def test_a_walk_to_values_of_thousands_of_figures(self):
+        # Neighbours of a power of ten, so that their sum has a bottom of nearly as many figures as all of them.
+        steps = ["1/" + "9" * 58 + str(number) + " -" for number in range(10, 100)]
+        told = desk_of("watches x\nroom a").say("walk " + "; ".join(steps))
+        self.assertGreater(len(told), 8000)
+        self.assertRegex(told, r"\Aa [1-9][0-9]*/[1-9][0-9]*\Z")
+
     def test_judge(self):
         self.assertEqual(self.desk.say("judge 200 never idle/work x>5"), "held " + str(
             len(judge(Never("idle/work", [("x", ">", 5)]), self.whole).paper)))
@@ -171,7 +178,7 @@ class RefusingTest(unittest.TestCase):
                      "judge never idle/wait", "earliest", "earliest ", "earliest 5", "earliest idle/wait", "soonest",
                      "soonest ", "soonest 5", "soonest 5 1/2", "soonest 1/2 5 idle/wait", "soonest idle/wait",
                      "never a",
-                     "ok", "show\nshow", "judge\t5 never a", "walk\t1 -"):
+                     "ok", "sooner 5 1/2 idle/wait", "show\nshow", "judge\t5 never a", "walk\t1 -"):
             self.check(NoRow, line)
 
     def test_most(self):

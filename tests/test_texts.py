@@ -31,6 +31,15 @@ class FractionTest(unittest.TestCase):
             self.assertEqual(show_fraction(value), text)
             self.assertEqual(read_fraction(text), value)
 
+    def test_longer_numbers_than_python_writes_at_once(self):
+        for figures in (61, 119, 120, 121, 4299, 4300, 4301, 9000):
+            for text in ("1" + "0" * (figures - 1), "9" * figures, "120" * (figures // 3) + "7"):
+                number = 0
+                for sign in text:
+                    number = 10 * number + int(sign)
+                self.assertEqual(show_fraction((number, 1)), text)
+                self.assertEqual(show_fraction((1, number)), "1/" + text)
+
     def test_every_small_one(self):
         for top in range(40):
             for bottom in range(1, 20):

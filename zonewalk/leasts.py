@@ -17,11 +17,9 @@ def limits_of(bounds, unit):
 
 def least_values(many, limits):
     values = [0] * (many + 1)
+    # What keeps to all limits is there behind as many turns as there are places; else they go on rising.
     for turn in range(many + 1):
-        raised = raise_all(values, limits)
-        if values[0] > 0:
-            return None
-        if not raised:
+        if not raise_all(values, limits):
             return values
     return None
 

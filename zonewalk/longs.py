@@ -1,17 +1,15 @@
 """Machines made of others: with a long watch, and with a room cut off."""
 
-from zonewalk.errors import BadMachine, NoMark
-from zonewalk.machines import MOST_WATCHES, Door, Machine
+from zonewalk.errors import NoMark
+from zonewalk.machines import Door, Machine
 
 LONG = "/"
 CUT = "cut!"
 
 
 def with_long(machine):
-    watches = machine.watches()
-    if LONG in watches or len(watches) >= MOST_WATCHES:
-        raise BadMachine("there is no place for a long watch")
-    return Machine(watches + [LONG], rooms_with_stays(machine), machine.doors())
+    # One that has this watch, or seven, already is refused as any such machine is.
+    return Machine(machine.watches() + [LONG], rooms_with_stays(machine), machine.doors())
 
 
 def rooms_with_stays(machine):

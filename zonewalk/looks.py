@@ -10,8 +10,6 @@ STAY_WORDS = ("<", "<=")
 def is_look(thing, watches, words):
     if not isinstance(thing, tuple) or len(thing) != 3:
         return False
-    if not isinstance(thing[0], str) or not isinstance(thing[1], str):
-        return False
     return thing[0] in watches and thing[1] in words and is_number(thing[2])
 
 

@@ -23,7 +23,12 @@ class Sheet:
         return any([lies_in(zone, self.first_values) for zone in self.zones[self.first_room]])
 
     def holds_within(self, room, zone):
-        return zone is None or any([within(zone, other) for other in self.zones[room]])
+        if zone is None:
+            return True
+        for other in self.zones[room]:
+            if within(zone, other):
+                return True
+        return False
 
     def holds_wait(self, room, zone):
         return self.holds_within(room, met(waited(zone), self.stays[room]))

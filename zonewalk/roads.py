@@ -49,32 +49,24 @@ def looked_at(looks, time, set_at):
     return bounds
 
 
-def stayed(machine, room, time, set_at):
-    return looked_at(placed(machine, machine.stay(room)), time, set_at)
-
-
-def gone_through(machine, door, time, set_at):
-    bounds = looked_at(placed(machine, door.asks()), time, set_at)
-    for place in nought_places(machine, door):
-        set_at[place] = time
-    bounds.extend(stayed(machine, door.end, time, set_at))
-    return bounds
+def waited_till(machine, room, time, set_at):
+    # As stays ask from above alone, one that is met when the room is left was met all along.
+    stay = placed(machine, machine.stay(room))
+    return [(time - 1, time, at_most(0))] + looked_at(stay, time, set_at)
 
 
 def road_bounds(machine, road, guard):
     doors = road_doors(machine, road)
     looks = placed(machine, guard)
     set_at = [0 for place in range(len(machine.watches()) + 1)]
-    here = machine.rooms()[0]
-    bounds = stayed(machine, here, 0, set_at)
+    bounds = []
     for time, door in enumerate(doors, start=1):
-        bounds.append((time - 1, time, at_most(0)))
-        bounds.extend(stayed(machine, here, time, set_at))
-        bounds.extend(gone_through(machine, door, time, set_at))
-        here = door.end
+        bounds.extend(waited_till(machine, door.start, time, set_at))
+        bounds.extend(looked_at(placed(machine, door.asks()), time, set_at))
+        for place in nought_places(machine, door):
+            set_at[place] = time
     end = len(doors) + 1
-    bounds.append((end - 1, end, at_most(0)))
-    bounds.extend(stayed(machine, here, end, set_at))
+    bounds.extend(waited_till(machine, last_room(machine, doors), end, set_at))
     bounds.extend(looked_at(looks, end, set_at))
     return bounds
 

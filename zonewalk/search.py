@@ -71,7 +71,11 @@ def listed(walk, most, ends):
 
 
 def is_covered(nodes, node):
-    return any([other[0] == node[0] and within(node[1], other[1]) for other in nodes])
+    # The newest ones first: they are the likeliest, and the first one found is enough.
+    for other in reversed(nodes):
+        if other[0] == node[0] and within(node[1], other[1]):
+            return True
+    return False
 
 
 def searched(machine, goal, most=200, free=None):

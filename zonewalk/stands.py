@@ -35,10 +35,8 @@ def units(value, unit):
 
 def filled(zone, known):
     unit = unit_of(len(zone) - 1, common_bottom(list(known.values())))
-    limits = []
-    for place, value in known.items():
-        limits.append((place, 0, units(value, unit)))
-        limits.append((0, place, -units(value, unit)))
+    # At least what is known is enough: it is of some values of the zone, so the least ones are no greater there.
+    limits = [(0, place, -units(value, unit)) for place, value in known.items()]
     return values_by(zone, limits, unit)
 
 

@@ -28,10 +28,22 @@ def read_number(text):
     return int(text)
 
 
+def show_number(number):
+    # Python does not write out some thousands of figures at once, and a sum of long fractions may have as many.
+    piece = 10 ** 60
+    pieces = []
+    rest = number
+    while rest >= piece:
+        pieces.append(str(rest % piece).zfill(60))
+        rest = rest // piece
+    pieces.append(str(rest))
+    return "".join(reversed(pieces))
+
+
 def show_fraction(value):
     if value[1] == 1:
-        return str(value[0])
-    return str(value[0]) + "/" + str(value[1])
+        return show_number(value[0])
+    return show_number(value[0]) + "/" + show_number(value[1])
 
 
 def read_fraction(text):
@@ -49,7 +61,7 @@ def read_fraction(text):
 
 
 def show_looks(guard):
-    return [watch + word + str(number) for watch, word, number in guard]
+    return [watch + word + show_number(number) for watch, word, number in guard]
 
 
 def read_look(text):
@@ -116,11 +128,11 @@ def read_door(words):
 
 
 def show_run(run):
-    return "; ".join([show_fraction(wait) + " " + show_number_of(door) for wait, door in run])
+    return "; ".join([show_fraction(wait) + " " + show_door(door) for wait, door in run])
 
 
-def show_number_of(door):
-    return "-" if door is None else str(door)
+def show_door(door):
+    return "-" if door is None else show_number(door)
 
 
 def read_run(text):
@@ -142,9 +154,9 @@ def show_claim(claim):
     if isinstance(claim, Never):
         words = ["never", claim.room] + show_looks(claim.guard)
     elif isinstance(claim, NoSooner):
-        words = ["nosooner", claim.room, str(claim.number)] + show_looks(claim.guard)
+        words = ["nosooner", claim.room, show_number(claim.number)] + show_looks(claim.guard)
     else:
-        words = ["within", claim.room, str(claim.number)]
+        words = ["within", claim.room, show_number(claim.number)]
     return " ".join(words)
 
 

@@ -31,13 +31,11 @@ def lies_in(zone, values):
 def narrowest(zone):
     rows = [[narrower(bound, free_bound(i, j)) for j, bound in enumerate(row)] for i, row in enumerate(zone)]
     for k in range(len(rows)):
-        # Looked at each time round, so that a ring below 0 is not gone round and round.
+        # A ring below 0 shows at its last place before that one's turn; caught there, it is not gone round and round.
         if is_broken(rows):
             return None
         over = rows[k]
         rows = [row if row[k] is None else row_over(row, row[k], over) for row in rows]
-    if is_broken(rows):
-        return None
     return rows
 
 
